@@ -1,7 +1,7 @@
 """Floors: cells in rows, each with its loss."""
 
 from glowcells.errors import NoFloor, NoLoss, NoPlace
-from glowcells.kinds import is_listed, is_whole
+from glowcells.kinds import is_listed, is_pair, is_whole
 
 WALL_LOSS = 0
 OPEN_LOSS = 1
@@ -32,10 +32,7 @@ class Floor:
 
     def beside(self, place):
         self.check_place(place)
-        row = place[0]
-        column = place[1]
-        around = [(row - 1, column), (row, column - 1), (row, column + 1), (row + 1, column)]
-        return [near for near in around if self.has(near) and self.loss(near) != WALL_LOSS]
+        return [near for near in around(place) if self.has(near) and not self.is_wall(near)]
 
     def with_loss(self, place, loss):
         self.check_place(place)
@@ -43,14 +40,33 @@ class Floor:
         rows[place[0]][place[1]] = loss
         return Floor(rows)
 
+    def places(self):
+        return places_of(self.losses)
+
+    def is_wall(self, place):
+        return self.losses[place[0]][place[1]] == WALL_LOSS
+
     def has(self, place):
-        if not is_listed(place) or len(place) != 2:
+        if not is_pair(place):
             return False
         return is_within(place[0], self.high()) and is_within(place[1], self.wide())
 
     def check_place(self, place):
         if not self.has(place):
             raise NoPlace("a place is a row and a column within the floor")
+
+
+def around(place):
+    row = place[0]
+    column = place[1]
+    return [(row - 1, column), (row, column - 1), (row, column + 1), (row + 1, column)]
+
+
+def places_of(rows):
+    places = []
+    for number, row in enumerate(rows):
+        places.extend([(number, column) for column in range(len(row))])
+    return places
 
 
 def is_within(value, end):

@@ -8,3 +8,7 @@ def is_whole(value):
 
 def is_listed(value):
     return isinstance(value, (list, tuple))
+
+
+def is_pair(value):
+    return is_listed(value) and len(value) == 2

@@ -1,6 +1,7 @@
 """The form of the package's files: what can be seen of ../shared/LANGUAGE.md without running them."""
 
 import ast
+import builtins
 import pathlib
 import re
 import unittest
@@ -28,6 +29,15 @@ OWN_METHODS = """
 """.split()
 TWO_UNDERSCORES = "__init__ __eq__ __repr__ __str__ __len__".split()
 NO_NAMES = "register mro elements open input version_info with_traceback add_note format format_map".split()
+NOT_AS_NAMES = """
+    attrgetter breakpoint builtins compile copyright credits delattr dir eval exec exit gc getattr globals hasattr help
+    id importlib license locals methodcaller os quit setattr super type vars sys __name__
+""".split()
+WALKED_AT_ONCE = "zip enumerate reversed range items keys values".split()
+WALKERS = "list tuple dict sorted sum any all enumerate zip min max join".split()
+OWN_KINDS = (str, int, list, dict, set, bytes, tuple)
+MORE_METHODS = ["add", "discard"]
+MORE_VALUES = "count index title find get join lower upper split strip copy add".split()
 NO_WORDS = re.compile(
     r"\b(type|typing|typing_extensions|enum|Enum|IntEnum|StrEnum|Flag|IntFlag|Generic|Protocol|ABC|ABCMeta"
     r"|namedtuple|NamedTuple|TypedDict|TYPE_CHECKING|abstractmethod)\b|dataclass|overload|contextmanager"
@@ -62,6 +72,16 @@ def bound_anywhere(tree):
     for node in nodes(tree, ast.ImportFrom):
         names += [alias.asname or alias.name for alias in node.names]
     return names
+
+
+def imported(tree):
+    return [alias.asname or alias.name for node in nodes(tree, ast.ImportFrom) for alias in node.names]
+
+
+def called(node):
+    if isinstance(node, ast.Call):
+        return node.func.id if isinstance(node.func, ast.Name) else getattr(node.func, "attr", "")
+    return ""
 
 
 def method_names(tree):
@@ -141,6 +161,27 @@ class TestParts(unittest.TestCase):
                     self.assertIsInstance(part, (ast.FunctionDef, ast.Pass), (name, node.name))
 
 
+class TestWalks(unittest.TestCase):
+    def test_what_is_walked_at_once_is_not_kept(self):
+        for name, tree in trees().items():
+            walked = [node.iter for node in nodes(tree, ast.For, ast.comprehension)]
+            for node in nodes(tree, ast.Call):
+                if called(node) in WALKERS:
+                    walked += node.args if called(node) == "zip" else node.args[:1]
+            for node in nodes(tree, ast.Call):
+                if called(node) in WALKED_AT_ONCE:
+                    self.assertIn(node, walked, (name, node.lineno))
+
+    def test_sets_are_asked_on_the_spot(self):
+        for name, tree in trees().items():
+            asked = [node.args[0] for node in nodes(tree, ast.Call) if called(node) in ("sorted", "len")]
+            for node in nodes(tree, ast.Compare):
+                asked += [node.left] + node.comparators
+            for node in nodes(tree, ast.Call):
+                if called(node) in ("set", "frozenset"):
+                    self.assertIn(node, asked, (name, node.lineno))
+
+
 class TestNames(unittest.TestCase):
     def test_imports_are_the_package_s_own_and_from_where_a_name_is_defined(self):
         parsed = trees()
@@ -161,6 +202,40 @@ class TestNames(unittest.TestCase):
                 if word not in TWO_UNDERSCORES:
                     self.assertRegex(word, r"^[A-Za-z][A-Za-z0-9_]*$", name)
                 self.assertNotIn(word, OWN_NAMES + NO_NAMES, name)
+
+    def test_no_local_is_called_like_a_class_an_import_or_a_name_of_python_s_own(self):
+        for name, tree in trees().items():
+            classes = [node.name for node in nodes(tree, ast.ClassDef)]
+            taken = classes + imported(tree) + dir(builtins)
+            local = [node.arg for node in nodes(tree, ast.arg)]
+            local += [node.id for node in nodes(tree, ast.Name) if not isinstance(node.ctx, ast.Load)]
+            local += [node.name for node in nodes(tree, ast.ExceptHandler) if node.name]
+            self.assertEqual([word for word in local if word in taken], [], name)
+
+    def test_no_two_files_draw_from_one_another(self):
+        drawn = {}
+        for name, tree in trees().items():
+            drawn[name] = [node.module.partition(".")[2] + ".py" for node in nodes(tree, ast.ImportFrom)]
+        done = []
+        while len(done) < len(drawn):
+            free = [name for name in drawn if name not in done and all(other in done for other in drawn[name])]
+            self.assertNotEqual(free, [], done)
+            done += free
+
+    def test_names_that_are_not_used(self):
+        for name, tree in trees().items():
+            for node in nodes(tree, ast.Name):
+                self.assertNotIn(node.id, NOT_AS_NAMES + NO_NAMES, (name, node.lineno))
+
+    def test_own_methods_and_values_are_free_names(self):
+        of_python = [word for kind in OWN_KINDS for word in dir(kind)]
+        for name, tree in trees().items():
+            for word in method_names(tree):
+                if word not in TWO_UNDERSCORES + OWN_METHODS + MORE_METHODS:
+                    self.assertNotIn(word, of_python, name)
+            for node in nodes(tree, ast.Attribute):
+                if isinstance(node.ctx, ast.Store) and node.attr not in MORE_VALUES:
+                    self.assertNotIn(node.attr, of_python + ["args"], (name, node.lineno))
 
     def test_of_python_s_own_names_only_the_listed_ones(self):
         for name, tree in trees().items():
