@@ -1,6 +1,9 @@
 """What several test files share: slow ways of reckoning by the document's words, floors, and wrong inputs."""
 
+import copy
 import random
+
+from glowcells.errors import NoPlace, NoStrength, Taken, Walled
 
 GREATEST = 10 ** 60 - 1
 GREAT = 10 ** 59
@@ -8,6 +11,25 @@ GREAT = 10 ** 59
 NO_WHOLE = [True, False, None, "", "1", [], [1], (1,), {}, 1.0, 2.5]
 NO_STRENGTHS = [0, -1, -5, -GREATEST, 10 ** 60, 10 ** 60 + 1, 10 ** 100] + NO_WHOLE
 NO_GLASS = [1] + NO_STRENGTHS
+# What is no rows of numbers of a floor of two rows of two cells.
+NO_ROWS = [
+    [], [[0, 0]], [[0, 0]] * 3, [[0], [0, 0]], [[0, 0], [0]], [[0, 0, 0], [0, 0]], [[0, 0], [0, 0, 0]],
+    [[], []], (), [(0, 0)], [(0, 0), (0,)], [0, 0], [[0, 0], None], [None, [0, 0]], [[0, 0], "00"],
+    None, 0, True, "", "00", {}, {0: [0, 0], 1: [0, 0]},
+] + [
+    [[bad, 0], [0, 0]] for bad in NO_WHOLE
+] + [
+    [[0, bad], [0, 0]] for bad in NO_WHOLE
+] + [
+    [[0, 0], [bad, 0]] for bad in NO_WHOLE
+] + [
+    ((0, 0), (0, bad)) for bad in NO_WHOLE
+]
+# Of a floor that has a wall at (0, 1).
+REFUSED_LAMPS = [
+    (NoPlace, [((9, 9), 0)]), (NoPlace, [(None, 5)]), (NoStrength, [((0, 1), 0)]), (NoStrength, [((0, 0), True)]),
+    (Walled, [((0, 1), 5)]), (Taken, [((0, 0), 5), ((0, 0), 6)]),
+]
 
 
 def no_places(high, wide):
@@ -160,3 +182,125 @@ def drawn(seed, sizes=((1, 1), (1, 7), (7, 1), (2, 2), (5, 5), (4, 9))):
         for many in (0, 1, 2, 5):
             losses = drawn_floor(draw, high, wide)
             yield draw, losses, drawn_lamps(draw, losses, many)
+
+
+def is_whole(value):
+    return type(value) is int
+
+
+def is_place(losses, place):
+    return (
+        type(place) in (list, tuple) and len(place) == 2 and is_whole(place[0]) and is_whole(place[1])
+        and tuple(place) in places_of(losses)
+    )
+
+
+class Model:
+    """A board, or by colours a hall, as the document's words have it: floor and lamps alone, by the slowest ways."""
+
+    NUMBERS = {"put": "strength", "turn": "strength", "glass": "loss"}
+    PLACES = {"put": 1, "out": 1, "move": 2, "turn": 1, "wall": 1, "open": 1, "glass": 1}
+    OF_LAMPS = ("put", "out", "move", "turn")
+
+    def __init__(self, losses, lamps=(), colours=None):
+        self.losses = [list(row) for row in losses]
+        self.coloured = colours is not None
+        self.lamps = {colour: {} for colour in (colours or [None])}
+        for place, strength in lamps:
+            self.lamps[None][place] = strength
+
+    def parted(self, deed):
+        """The deed's word, colour, places and number; None of what is no deed."""
+        if type(deed) not in (list, tuple) or not deed or type(deed[0]) is not str or deed[0] not in self.PLACES:
+            return None
+        word, rest = deed[0], list(deed[1:])
+        with_colour = self.coloured and word in self.OF_LAMPS
+        if len(rest) != with_colour + self.PLACES[word] + (word in self.NUMBERS):
+            return None
+        colour = rest.pop(0) if with_colour else None
+        return word, colour, rest[:self.PLACES[word]], rest[-1] if word in self.NUMBERS else None
+
+    def why(self, deed):
+        parted = self.parted(deed)
+        if parted is None:
+            return "NoDeed"
+        word, colour, places, number = parted
+        if self.coloured and word in self.OF_LAMPS and colour not in list(self.lamps):
+            return "NoColour"
+        if not all(is_place(self.losses, place) for place in places):
+            return "NoPlace"
+        if word in self.NUMBERS:
+            least = 1 if self.NUMBERS[word] == "strength" else 2
+            if not is_whole(number) or not least <= number <= GREATEST:
+                return "NoStrength" if self.NUMBERS[word] == "strength" else "NoLoss"
+        return self.why_not_there(word, colour, [tuple(place) for place in places])
+
+    def why_not_there(self, word, colour, places):
+        walled = at(self.losses, places[-1]) == 0
+        if word in ("out", "move", "turn") and places[0] not in self.lamps[colour]:
+            return "NoLamp"
+        if word in ("put", "move", "glass") and walled:
+            return "Walled"
+        if word in ("put", "move") and places[-1] in self.lamps[colour]:
+            return "Taken"
+        if word == "wall" and (walled or any(places[0] in lamps for lamps in self.lamps.values())):
+            return "Taken"
+        return None
+
+    def do(self, deed):
+        word, colour, places, number = self.parted(deed)
+        places = [tuple(place) for place in places]
+        if word in ("put", "turn"):
+            self.lamps[colour][places[0]] = number
+        elif word == "out":
+            del self.lamps[colour][places[0]]
+        elif word == "move":
+            self.lamps[colour][places[1]] = self.lamps[colour].pop(places[0])
+        else:
+            self.losses[places[0][0]][places[0][1]] = {"wall": 0, "open": 1, "glass": number}[word]
+
+    def lights(self, colour=None):
+        return slow_lights(self.losses, self.lamps[colour].items())
+
+
+def changes(before, behind):
+    return [(place, at(before, place), at(behind, place)) for place in unlike(before, behind)]
+
+
+def drawn_deed(draw, model):
+    """A deed that is mostly one that can be done, now and then one with a fault."""
+    places = places_of(model.losses)
+    word = draw.choice(["put", "put", "put", "out", "move", "move", "turn", "turn", "wall", "wall", "open", "glass"])
+    colour = draw.choice(list(model.lamps))
+    lamps = sorted(model.lamps[colour])
+    first = draw.choice(lamps if lamps and word in ("out", "move", "turn") else places)
+    deed = [word, first]
+    if word == "move":
+        deed.append(draw.choice(places))
+    if word in ("put", "turn"):
+        deed.append(draw.choice([1, 2, 4, 7, 12, 30, GREATEST, 0, True] if draw.random() < 0.2 else [3, 5, 8, 20]))
+    if word == "glass":
+        deed.append(draw.choice([2, 3, 6, GREATEST, 1, None] if draw.random() < 0.3 else [2, 3, 4]))
+    if model.coloured and word in model.OF_LAMPS:
+        deed.insert(1, draw.choice(["zz", None, "A"]) if draw.random() < 0.05 else colour)
+    if draw.random() < 0.05:
+        deed[draw.randrange(len(deed))] = draw.choice([None, "put", (0, 99), [], (-1, 0), 0])
+    if draw.random() < 0.03:
+        deed.append(draw.choice([None, 5, (0, 0)]))
+    return draw.choice([tuple, list])(deed)
+
+
+def drawn_row(draw, model, many):
+    """Deeds, why the last one is refused (None where all are done), and the model behind them."""
+    ahead = copy.deepcopy(model)
+    deeds = []
+    for number in range(many):
+        deed = drawn_deed(draw, ahead)
+        # Most refused ones are drawn anew, or hardly a long row would be done.
+        while ahead.why(deed) is not None and draw.random() < 0.95:
+            deed = drawn_deed(draw, ahead)
+        deeds.append(deed)
+        if ahead.why(deed) is not None:
+            return deeds, ahead.why(deed), ahead
+        ahead.do(deed)
+    return deeds, None, ahead

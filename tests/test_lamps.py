@@ -74,6 +74,11 @@ class TestRefused(unittest.TestCase):
                 self.refused(NoPlace, [((0, 0), 5), (place, 5)])
                 self.refused(NoPlace, [(place, 5), ((0, 0), 5)])
 
+    def test_what_is_no_pair_has_no_place(self):
+        for lamp in (None, 5, True, "", "ab", (), [], ((0, 0),), ((0, 0), 5, 5), (0, 0), {}):
+            with self.subTest(lamp=lamp), self.assertRaises(NoPlace):
+                looked_over(FLOOR, [lamp])
+
     def test_what_is_no_strength(self):
         for strength in NO_STRENGTHS:
             with self.subTest(strength=strength):

@@ -4,17 +4,13 @@ import copy
 import random
 import unittest
 
-from glowcells.errors import NoLights, NoPlace, NoStrength, Taken, Walled
+from glowcells.errors import NoLights, NoPlace
 from glowcells.floors import Floor
 from glowcells.lights import lights, off, way_to
 from tests.reckoning import (
-    GREAT, GREATEST, NO_WHOLE, at, drawn, is_way, no_places, places_of, slow_lights, slow_off, spoil, way_loss, winding,
+    GREAT, GREATEST, NO_ROWS, REFUSED_LAMPS, at, drawn, is_way, no_places, places_of, slow_lights, slow_off, spoil,
+    way_loss, winding,
 )
-
-REFUSED_LAMPS = [
-    (NoPlace, [((9, 9), 0)]), (NoPlace, [(None, 5)]), (NoStrength, [((0, 1), 0)]), (NoStrength, [((0, 0), True)]),
-    (Walled, [((0, 1), 5)]), (Taken, [((0, 0), 5), ((0, 0), 6)]),
-]
 
 
 class TestLights(unittest.TestCase):
@@ -237,31 +233,16 @@ class TestOff(unittest.TestCase):
         changed[10][10] += 1
         self.check(losses, lamps, changed, rows)
 
-    def no_lights(self, rows):
+    def test_rows_that_are_none_behind_the_lamps(self):
         floor = Floor([[1, 0], [1, 1]])
-        before = copy.copy(rows)
-        self.assertRaises(NoLights, off, floor, [((0, 0), 5)], rows)
-        self.assertRaises(NoLights, off, floor, [], rows)
-        for refusal, lamps in REFUSED_LAMPS:
-            self.assertRaises(refusal, off, floor, lamps, rows)
-        self.assertEqual(rows, before)
-
-    def test_rows_that_are_none(self):
-        for rows in (
-            [], [[0, 0]], [[0, 0]] * 3, [[0], [0, 0]], [[0, 0], [0]], [[0, 0, 0], [0, 0]], [[0, 0], [0, 0, 0]],
-            [[], []], (), [(0, 0)], [(0, 0), (0,)], [0, 0], [[0, 0], None], [None, [0, 0]], [[0, 0], "00"],
-            None, 0, True, "", "00", {}, {0: [0, 0], 1: [0, 0]},
-        ):
+        for rows in NO_ROWS:
             with self.subTest(rows=rows):
-                self.no_lights(rows)
-
-    def test_something_in_the_rows_that_is_no_whole_number(self):
-        for bad in NO_WHOLE:
-            for row, column in ((0, 0), (0, 1), (1, 0), (1, 1)):
-                rows = [[0, 0], [0, 0]]
-                rows[row][column] = bad
-                with self.subTest(rows=rows):
-                    self.no_lights(rows)
+                before = copy.deepcopy(rows)
+                self.assertRaises(NoLights, off, floor, [((0, 0), 5)], rows)
+                self.assertRaises(NoLights, off, floor, [], rows)
+                for refusal, lamps in REFUSED_LAMPS:
+                    self.assertRaises(refusal, off, floor, lamps, rows)
+                self.assertEqual(rows, before)
 
     def test_refused_lamps(self):
         for refusal, lamps in REFUSED_LAMPS:

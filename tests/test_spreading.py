@@ -9,7 +9,7 @@ from glowcells.floors import Floor
 from glowcells.lights import lights
 from glowcells.spreading import raised
 from tests.reckoning import (
-    GREAT, GREATEST, NO_WHOLE, at, beside, drawn, lacking, no_places, places_of, slow_lights, slow_raised, spoil,
+    GREAT, GREATEST, NO_ROWS, at, beside, drawn, lacking, no_places, places_of, slow_lights, slow_raised, spoil,
     unlike, winding,
 )
 
@@ -158,25 +158,12 @@ class TestRaised(unittest.TestCase):
 
 class TestRefused(unittest.TestCase):
     FLOOR = Floor([[1, 0], [1, 1]])
-    NO_ROWS = [
-        [], [[0, 0]], [[0, 0]] * 3, [[0], [0, 0]], [[0, 0], [0]], [[0, 0, 0], [0, 0]], [[0, 0], [0, 0, 0]], [[], []],
-        (), [0, 0], [[0, 0], None], [None, [0, 0]], [[0, 0], "00"], None, 0, True, "", "00", {}, {0: [0, 0], 1: [0, 0]},
-    ]
 
     def test_rows_that_are_none_ahead_of_no_place(self):
-        for rows in self.NO_ROWS:
+        for rows in NO_ROWS:
             for starts in ([], [((0, 0), 5)], [((2, 0), 5)], [(None, 5)]):
                 with self.subTest(rows=rows, starts=starts), self.assertRaises(NoLights):
                     raised(self.FLOOR, rows, starts)
-
-    def test_something_in_the_rows_that_is_no_whole_number(self):
-        for bad in NO_WHOLE:
-            for row, column in ((0, 0), (0, 1), (1, 0), (1, 1)):
-                rows = [[0, 0], [0, 0]]
-                rows[row][column] = bad
-                for starts in ([], [((0, 0), 5)], [((2, 0), 5)]):
-                    with self.subTest(rows=rows), self.assertRaises(NoLights):
-                        raised(self.FLOOR, rows, starts)
 
     def test_what_is_no_place(self):
         rows = [[0, 0], [0, 0]]
@@ -185,6 +172,11 @@ class TestRefused(unittest.TestCase):
                 with self.subTest(starts=starts), self.assertRaises(NoPlace):
                     raised(self.FLOOR, rows, starts)
         self.assertEqual(rows, [[0, 0], [0, 0]])
+
+    def test_what_is_no_pair_has_no_place(self):
+        for start in (None, 5, True, "", "ab", (), [], ((0, 0),), ((0, 0), 5, 5), (0, 0), {}):
+            with self.subTest(start=start), self.assertRaises(NoPlace):
+                raised(self.FLOOR, [[0, 0], [0, 0]], [start])
 
 
 if __name__ == "__main__":
