@@ -3,7 +3,8 @@
 import copy
 import random
 
-from glowcells.errors import NoPlace, NoStrength, Taken, Walled
+from glowcells.errors import NoFloor, NoPlace, NoStrength, Taken, Walled
+from glowcells.floors import Floor
 
 GREATEST = 10 ** 60 - 1
 GREAT = 10 ** 59
@@ -30,6 +31,25 @@ REFUSED_LAMPS = [
     (NoPlace, [((9, 9), 0)]), (NoPlace, [(None, 5)]), (NoStrength, [((0, 1), 0)]), (NoStrength, [((0, 0), True)]),
     (Walled, [((0, 1), 5)]), (Taken, [((0, 0), 5), ((0, 0), 6)]),
 ]
+
+
+def refused_joins():
+    """What joined refuses, and by which class: twos of a floor and lamps that can't be made one."""
+    good = (Floor([[1, 0], [1, 1]]), [((0, 0), 5)])
+    higher = (Floor([[1, 0], [1, 1], [1, 1]]), [((0, 0), 5)])
+    widest = (Floor([[1] * 30] * 2), [((0, 0), 5)])
+    refused = [
+        (NoFloor, good, higher), (NoFloor, higher, good), (NoFloor, good, widest), (NoFloor, widest, good),
+        (NoFloor, widest, widest), (NoFloor, higher, widest), (NoFloor, widest, (Floor([[0], [0]]), [])),
+        (NoFloor, (Floor([[1] * 16] * 2), []), (Floor([[1] * 15] * 2), [])),
+    ]
+    for kind, lamps in REFUSED_LAMPS:
+        bad = (good[0], lamps)
+        for other in (good, higher, widest):
+            refused += [(kind, bad, other), (kind, other, bad)]
+        for later, others in REFUSED_LAMPS:
+            refused += [(kind, bad, (good[0], others)), (kind, bad, (higher[0], others))]
+    return refused
 
 
 def no_places(high, wide):
