@@ -1,7 +1,7 @@
 """Boards: a floor, lamps and their lights, kept right behind deeds."""
 
 from glowcells.errors import GlowError, NoColour, NoDeed, NoLamp, NoLoss, NoPlace, NoStrength, Stopped, Taken, Walled
-from glowcells.floors import OPEN_LOSS, WALL_LOSS, is_loss
+from glowcells.floors import LEAST_GLASS, OPEN_LOSS, WALL_LOSS, is_loss
 from glowcells.kinds import is_listed
 from glowcells.lamps import check_free, check_strength, in_order, looked_over
 from glowcells.lights import lit, source_of
@@ -18,7 +18,6 @@ PARTS = {
     "glass": ("place", "loss"),
 }
 LAMP_WORDS = ("put", "out", "move", "turn")
-LEAST_GLASS = 2
 
 
 class Board:

@@ -5,6 +5,7 @@ from glowcells.kinds import is_listed, is_pair, is_whole
 
 WALL_LOSS = 0
 OPEN_LOSS = 1
+LEAST_GLASS = 2
 MOST = 30
 
 

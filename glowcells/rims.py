@@ -70,10 +70,10 @@ def inside(rims):
     return sorted(places)
 
 
-def heights_of(rims):
+def heights_of(every_rim):
     # By columns the rows at which sides lie that go along rows.
     heights = {}
-    for rim in rims:
+    for rim in every_rim:
         for begin, end in zip(rim, rim[1:] + rim[:1]):
             if begin[0] == end[0]:
                 heights.setdefault(min(begin[1], end[1]), []).append(begin[0])

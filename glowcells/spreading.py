@@ -19,8 +19,12 @@ def check_rows(floor, rows):
     for row in rows:
         if not is_listed(row) or len(row) != floor.wide():
             raise NoLights("a row has as many numbers as the floor's rows have cells")
-        if not all([is_whole(value) for value in row]):
-            raise NoLights("a row of numbers has whole numbers alone")
+        check_numbers(row)
+
+
+def check_numbers(row):
+    if not all([is_whole(value) for value in row]):
+        raise NoLights("a row of numbers has whole numbers alone")
 
 
 def check_start(floor, start):

@@ -1,7 +1,7 @@
 """Floors as texts: written, and read back."""
 
 from glowcells.errors import NoText
-from glowcells.floors import MOST, OPEN_LOSS, WALL_LOSS, Floor
+from glowcells.floors import LEAST_GLASS, MOST, OPEN_LOSS, WALL_LOSS, Floor
 
 WALL_WORD = "#"
 OPEN_WORD = "."
@@ -51,13 +51,18 @@ def read_loss(word):
         return WALL_LOSS
     if word == OPEN_WORD:
         return OPEN_LOSS
-    if is_glass(word):
-        return int(word)
-    return None
+    loss = read_number(word, MOST_FIGURES)
+    # Walls and open cells have words of their own.
+    if loss is None or loss < LEAST_GLASS:
+        return None
+    return loss
 
 
-def is_glass(word):
+def read_number(word, most):
+    # None stands for a word that is no number without noughts ahead, or one of more figures than the most.
     # The length is looked at first: Python refuses to read numbers of some thousand figures.
-    if not 1 <= len(word) <= MOST_FIGURES or word.startswith("0") or word == "1":
-        return False
-    return all([sign in FIGURES for sign in word])
+    if not 1 <= len(word) <= most or not all([sign in FIGURES for sign in word]):
+        return None
+    if word.startswith("0") and word != "0":
+        return None
+    return int(word)

@@ -82,9 +82,10 @@ def beside(losses, place):
     ]
 
 
-def least_losses(losses, place):
-    """For each cell that a way leads to, the least loss of any way from the place, by sweeps until nothing changes."""
-    least = {place: 0}
+def swept(losses, place, first, step):
+    """For each cell that a way leads to, the least number of any way from the place: first there, and by each step
+    what step makes of the number so far and the next cell; by sweeps until nothing changes."""
+    least = {place: first}
     changed = True
     order = places_of(losses)
     while changed:
@@ -94,10 +95,14 @@ def least_losses(losses, place):
             if at(losses, cell) == 0:
                 continue
             for near in beside(losses, cell):
-                if near in least and (cell not in least or least[near] + at(losses, cell) < least[cell]):
-                    least[cell] = least[near] + at(losses, cell)
+                if near in least and (cell not in least or step(least[near], cell) < least[cell]):
+                    least[cell] = step(least[near], cell)
                     changed = True
     return least
+
+
+def least_losses(losses, place):
+    return swept(losses, place, 0, lambda loss, cell: loss + at(losses, cell))
 
 
 def slow_lights(losses, lamps):
@@ -180,6 +185,11 @@ def spoil(told):
         told.append("spoilt")
         if len(told) % 2 == 0:
             told.clear()
+
+
+def state(hall):
+    """All that a hall tells of itself."""
+    return hall.floor().rows(), hall.colours(), [(hall.lamps(colour), hall.lights(colour)) for colour in hall.colours()]
 
 
 def drawn_floor(draw, high, wide):

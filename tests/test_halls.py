@@ -10,7 +10,7 @@ from glowcells.floors import Floor
 from glowcells.halls import Hall
 from tests.reckoning import (
     GREATEST, NO_GLASS, NO_STRENGTHS, Model, at, changes, drawn_floor, drawn_row, no_places, places_of, slow_lights,
-    spoil, winding,
+    spoil, state, winding,
 )
 
 LOSSES = [[1, 1, 1, 1], [1, 0, 5, 1], [1, 1, 1, 1]]
@@ -40,10 +40,6 @@ def made():
         for place, strength in LAMPS[colour]:
             hall.do(("put", colour, place, strength))
     return hall
-
-
-def state(hall):
-    return hall.floor().rows(), hall.colours(), [(hall.lamps(colour), hall.lights(colour)) for colour in hall.colours()]
 
 
 class Checked(unittest.TestCase):

@@ -8,7 +8,7 @@ from glowcells.errors import NoLights, NoPlace, NoWay, Walled
 from glowcells.floors import Floor
 from glowcells.ways import brightest, darkest
 from tests.reckoning import (
-    GREAT, GREATEST, NO_ROWS, at, beside, drawn_floor, is_way, no_places, places_of, spoil, winding,
+    GREAT, GREATEST, NO_ROWS, at, drawn_floor, is_way, no_places, places_of, spoil, swept, winding,
 )
 
 NUMBERS = (
@@ -18,23 +18,8 @@ NUMBERS = (
 
 
 def slow_greatest(losses, rows, start):
-    """For each cell that a way leads to, the least that the greatest number of a way can be, by sweeps."""
-    least = {start: at(rows, start)}
-    changed = True
-    order = places_of(losses)
-    while changed:
-        changed = False
-        order.reverse()
-        for cell in order:
-            if at(losses, cell) == 0:
-                continue
-            for near in beside(losses, cell):
-                if near in least:
-                    most = max(least[near], at(rows, cell))
-                    if cell not in least or most < least[cell]:
-                        least[cell] = most
-                        changed = True
-    return least
+    """For each cell that a way leads to, the least that the greatest number of a way can be."""
+    return swept(losses, start, at(rows, start), lambda most, cell: max(most, at(rows, cell)))
 
 
 def drawn_rows(draw, losses):
